@@ -1,0 +1,1 @@
+"""Elderways: sliding the ends of passages along older passages."""

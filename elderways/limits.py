@@ -1,0 +1,3 @@
+"""The limits that the program itself sets."""
+
+MAX_LISTED = 600

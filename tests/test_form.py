@@ -15,6 +15,16 @@ LIBRARY = {
     },
     "collections": {"defaultdict"},
 }
+# The functions of the interface, by the file in which each one must be defined.
+INTERFACE = {
+    "permutations.py": ["is_permutation", "identity", "compose", "inverse", "order", "power"],
+    "houses.py": ["is_house", "follow", "is_walk"],
+    "components.py": ["components", "component_of"],
+    "walks.py": ["permutations_between", "shortest_walk", "loop_count"],
+    "slides.py": [
+        "is_slide", "possible_slides", "apply_slide", "apply_slides", "reverse_slide", "first_invalid",
+    ],
+}
 
 
 def source_texts():
@@ -64,6 +74,12 @@ class FormTest(unittest.TestCase):
                     self.assertLessEqual(taken, LIBRARY.get(node.module, set()))
 
         self.for_each_file(check)
+
+    def test_interface_is_defined_in_its_files(self):
+        texts = source_texts()
+        for name, functions in INTERFACE.items():
+            defined = [node.name for node in ast.parse(texts[name]).body if isinstance(node, ast.FunctionDef)]
+            self.assertEqual([function for function in functions if function not in defined], [], name)
 
 
 if __name__ == "__main__":

@@ -67,7 +67,7 @@ def crossing(passage, direction):
     """Return the room where a passage begins in a direction, the room where it leads, and its effect."""
     start, end, permutation = passage
     if direction == "forward":
-        return start, end, tuple(permutation)
+        return start, end, permutation
     return end, start, inverse(permutation)
 
 

@@ -79,7 +79,7 @@ def reverse_slide(slide):
 
 def first_invalid(house, slides, fixed):
     """Return the place of the first slide that raises an error or moves a fixed passage, or None."""
-    current = as_house(house)
+    current = house
     for place, slide in enumerate(slides):
         if slide[0] in fixed:
             return place

@@ -24,6 +24,9 @@ INTERFACE = {
     "slides.py": [
         "is_slide", "possible_slides", "apply_slide", "apply_slides", "reverse_slide", "first_invalid",
     ],
+    "positions.py": ["positions", "position_count", "can_reach", "slides_to"],
+    "reachability.py": ["is_reachable", "plan", "is_slide_path", "is_obstruction"],
+    "canonical.py": ["canonical", "are_equivalent", "group_equivalent"],
 }
 
 

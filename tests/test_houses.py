@@ -257,7 +257,8 @@ class IsWalkTest(unittest.TestCase):
                 self.assertIs(is_walk(H, 0, end, permutation, value), expected, value)
         # Around a loop many other walks arrive in the same room.
         for value in helpers.varied([(0, "forward")] * 3):
-            self.assertIs(is_walk(LOOP, 0, 0, (0, 1, 2), value), helpers.is_walk_by_hand(LOOP, 0, 0, (0, 1, 2), value), value)
+            expected = helpers.is_walk_by_hand(LOOP, 0, 0, (0, 1, 2), value)
+            self.assertIs(is_walk(LOOP, 0, 0, (0, 1, 2), value), expected, value)
 
     def test_booleans_are_no_integers(self):
         self.refused(H, 0, 1, R, [(False, "forward")])

@@ -45,6 +45,12 @@ def as_house(house):
     return rooms, size, tuple([as_passage(passage) for passage in passages])
 
 
+def with_replaced(house, index, passage):
+    """Return a house of tuples with this passage in the place of another one."""
+    rooms, size, passages = house
+    return rooms, size, passages[:index] + (passage,) + passages[index + 1:]
+
+
 def shape(house):
     """Return the number of rooms, the size and the number of passages."""
     rooms, size, passages = house

@@ -6,6 +6,7 @@ the older passages tell all positions, and no slide has to be tried.
 """
 
 from elderways.errors import PositionUnreachable
+from elderways.houses import as_passage
 from elderways.permutations import compose, inverse
 from elderways.walks import walk_to, walk_tree
 
@@ -60,6 +61,13 @@ def positions(house, index):
         for end in sorted(reached[1]):
             found.extend([(start, end, permutation) for permutation in permutations_at(reached, start, end)])
     return found
+
+
+def allowed_positions(house, index, fixed):
+    """Return the positions of a passage in ascending order, for a fixed passage only its own."""
+    if index in fixed:
+        return [as_passage(house[2][index])]
+    return positions(house, index)
 
 
 def least_position(house, index):

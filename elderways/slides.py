@@ -1,7 +1,7 @@
 """Slides: moving one end of a passage along an older passage."""
 
 from elderways.errors import NotOlder, UnknownPassage, WrongRoom
-from elderways.houses import DIRECTIONS, as_house, check_passage, crossing, exits, is_number_below
+from elderways.houses import DIRECTIONS, as_house, check_passage, crossing, exits, is_number_below, with_replaced
 from elderways.permutations import compose, inverse, is_plain_int
 
 SIDES = ("end", "start")
@@ -53,12 +53,12 @@ def apply_slide(house, slide):
     check_passage(house, older)
     if older >= index:
         raise NotOlder(older)
-    rooms, size, passages = as_house(house)
-    begins, leads, effect = crossing(passages[older], direction)
-    if end_room(passages[index], side) != begins:
+    current = as_house(house)
+    begins, leads, effect = crossing(current[2][older], direction)
+    passage = current[2][index]
+    if end_room(passage, side) != begins:
         raise WrongRoom(begins)
-    passage = moved(passages[index], side, leads, effect)
-    return rooms, size, passages[:index] + (passage,) + passages[index + 1:]
+    return with_replaced(current, index, moved(passage, side, leads, effect))
 
 
 def apply_slides(house, slides):

@@ -64,6 +64,24 @@ def all_fixed(house):
     return [chosen for many in range(len(indices) + 1) for chosen in itertools.combinations(indices, many)]
 
 
+def some_fixed(house):
+    """Return some tuples of fixed passages: none, the oldest, the youngest, every second one, all."""
+    many = len(house[2])
+    return sorted({(), (0,)[:many], tuple(range(many))[-1:], tuple(range(1, many, 2)), tuple(range(many))})
+
+
+def grid(rooms, fixed_loops=()):
+    """Return a house in which the youngest passage reaches every pair of rooms, and the indices of all others.
+
+    The loops are in room 0; the permutations that they generate are those of the youngest passage.
+    """
+    size = len(fixed_loops[0]) if fixed_loops else 1
+    same = tuple(range(size))
+    loops = tuple((0, 0, loop) for loop in fixed_loops)
+    spokes = tuple((0, room, same) for room in range(1, rooms))
+    return (rooms, size, loops + spokes + ((0, 0, same),)), tuple(range(len(loops) + len(spokes)))
+
+
 # The document by hand
 
 def then(first, second):
@@ -144,6 +162,12 @@ def least_slides(house, fixed=(), most=10 ** 6):
                 return None
         level = found
     return known
+
+
+def reachable_by_hand(house, fixed=(), most=10 ** 6):
+    """Return all houses that this one can become in the order of point 13; None if there are too many."""
+    known = least_slides(house, fixed, most)
+    return None if known is None else sorted(known, key=lambda found: found[2])
 
 
 def moves_alone(house, index, passage):
@@ -415,6 +439,16 @@ def varied_part(part):
 def varied(value):
     """Return other values of the form of this one, some valid and some not."""
     return replaced_parts(value, varied_part)
+
+
+# Errors
+
+def check_raised(test, error, fields, function, *arguments, **named):
+    """Check that a call raises exactly this error with these fields."""
+    with test.assertRaises(error) as caught:
+        function(*arguments, **named)
+    test.assertIs(type(caught.exception), error)
+    test.assertEqual(vars(caught.exception), fields)
 
 
 # The conventions of point 2

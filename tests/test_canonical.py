@@ -50,22 +50,16 @@ def groups_by_hand(houses, fixed):
     return groups
 
 
-def fixed_of(house):
-    """Return some tuples of fixed passages: none, the oldest, the youngest, every second one, all."""
-    many = len(house[2])
-    return sorted({(), (0,)[:many], tuple(range(many))[-1:], tuple(range(1, many, 2)), tuple(range(many))})
-
-
 class CanonicalTest(unittest.TestCase):
     def test_random_houses(self):
         for house in [H, T, YARD, (1, 1, ())] + helpers.random_houses(1, 60):
-            for fixed in fixed_of(house):
+            for fixed in helpers.some_fixed(house):
                 self.assertEqual(canonical(house, fixed), canonical_by_hand(house, fixed))
 
     def test_full_size(self):
         for house in helpers.full_houses(2, 2):
             least = [min(positions(house, index)) for index in range(12)]
-            for fixed in fixed_of(house):
+            for fixed in helpers.some_fixed(house):
                 found = canonical(house, fixed)
                 expected = [house[2][index] if index in fixed else least[index] for index in range(12)]
                 self.assertEqual(found, (8, 4, tuple(expected)))
@@ -91,7 +85,7 @@ class CanonicalTest(unittest.TestCase):
 
     def test_house_can_become_it(self):
         for house in [H, YARD] + helpers.random_houses(3, 30) + helpers.full_houses(4, 1):
-            for fixed in fixed_of(house):
+            for fixed in helpers.some_fixed(house):
                 found = canonical(house, fixed)
                 self.assertIs(is_reachable(house, found, fixed), True)
                 kind, slides = plan(house, found, fixed)
@@ -108,13 +102,13 @@ class CanonicalTest(unittest.TestCase):
     def test_result_is_a_house(self):
         for form in (helpers.listed, helpers.tupled, helpers.mixed):
             for house in [H, YARD] + helpers.random_houses(5, 20):
-                for fixed in fixed_of(house):
+                for fixed in helpers.some_fixed(house):
                     self.assertIs(is_house(canonical(form(house), form(fixed))), True)
 
     def test_conventions(self):
         for house in (H, YARD, (1, 1, ())):
             helpers.check_conventions(self, canonical, house=house)
-            for fixed in fixed_of(house):
+            for fixed in helpers.some_fixed(house):
                 helpers.check_conventions(self, canonical, house=house, fixed=fixed)
 
     def test_beyond_the_limits(self):
@@ -139,7 +133,7 @@ class EquivalentTest(unittest.TestCase):
     def test_random_houses(self):
         chance = random.Random(6)
         for house in [H, YARD] + helpers.random_houses(7, 40) + helpers.full_houses(8, 1):
-            for fixed in fixed_of(house):
+            for fixed in helpers.some_fixed(house):
                 _, target = helpers.random_slides(chance, house, 8, fixed)
                 self.assertIs(are_equivalent(house, target, fixed), True)
                 self.assertIs(are_equivalent(target, house, fixed), True)
@@ -148,7 +142,7 @@ class EquivalentTest(unittest.TestCase):
 
     def test_target_equal_to_the_house(self):
         for house in [(1, 1, ()), H, YARD] + helpers.random_houses(9, 20):
-            for fixed in fixed_of(house):
+            for fixed in helpers.some_fixed(house):
                 self.assertIs(are_equivalent(house, house, fixed), True)
 
     def test_fixed_passages(self):
@@ -225,14 +219,14 @@ class GuaranteesTest(unittest.TestCase):
     def test_canonical_form_never_changes(self):
         chance = random.Random(13)
         for house in [H, YARD] + helpers.random_houses(14, 40) + helpers.full_houses(15, 1):
-            for fixed in fixed_of(house):
+            for fixed in helpers.some_fixed(house):
                 _, target = helpers.random_slides(chance, house, 12, fixed)
                 self.assertEqual(canonical(target, fixed), canonical(house, fixed))
 
     def test_equal_forms_and_reachability(self):
         chance = random.Random(16)
         for house in helpers.random_houses(17, 25, most_rooms=2, most_size=2, most_passages=3):
-            for fixed in fixed_of(house):
+            for fixed in helpers.some_fixed(house):
                 known = helpers.least_slides(house, fixed)
                 for _ in range(15):
                     target = helpers.random_house(chance, house[0], house[1], len(house[2]))

@@ -27,6 +27,12 @@ INTERFACE = {
     "positions.py": ["positions", "position_count", "can_reach", "slides_to"],
     "reachability.py": ["is_reachable", "plan", "is_slide_path", "is_obstruction"],
     "canonical.py": ["canonical", "are_equivalent", "group_equivalent"],
+    "counting.py": ["reachable_count", "reachable_at", "number_of", "all_reachable"],
+    "constraints.py": ["matching_count", "first_match", "options"],
+    "redundancy.py": [
+        "is_redundant", "redundant_passages", "without_passage", "with_passage", "widened", "loop_growth",
+    ],
+    "repetition.py": ["apply_repeated", "period"],
 }
 
 

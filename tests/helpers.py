@@ -3,6 +3,7 @@
 import copy
 import itertools
 import random
+import re
 
 R = (1, 2, 0)
 H = (3, 3, ((0, 1, (1, 2, 0)), (1, 2, (0, 1, 2))))
@@ -485,3 +486,188 @@ def check_conventions(test, function, **arguments):
         test.assertEqual(given, before)
         lists = lists_in([expected, by_name, by_place, backwards]) + lists_in(list(given.values()))
         test.assertEqual(len({id(found) for found in lists}), len(lists))
+
+
+# Texts
+
+NUMBER = "(0|[1-9][0-9]*)"
+HOUSE_LINE = re.compile(f"house {NUMBER} {NUMBER}")
+PASSAGE_LINE = re.compile(f"{NUMBER} {NUMBER} ([0-9]+)")
+
+
+def permutation_of_text(size, text):
+    """Return the permutation that is written so, or None."""
+    found = [
+        permutation for permutation in itertools.permutations(range(size)) if "".join(map(str, permutation)) == text
+    ]
+    return found[0] if found else None
+
+
+def passage_of_text(rooms, size, line):
+    """Read point 20 word by word: the passage that is written so, or None."""
+    match = PASSAGE_LINE.fullmatch(line)
+    if not match or max(int(match[1]), int(match[2])) >= rooms or permutation_of_text(size, match[3]) is None:
+        return None
+    return int(match[1]), int(match[2]), permutation_of_text(size, match[3])
+
+
+def house_of_text(text):
+    """Read point 20 word by word: the house that is written so, or the index of the first wrong line."""
+    first, *lines = text.split("\n")
+    match = HOUSE_LINE.fullmatch(first)
+    if not match or int(match[1]) not in range(1, 9) or int(match[2]) not in range(1, 5):
+        return 0
+    passages = []
+    for place, line in enumerate(lines):
+        passage = passage_of_text(int(match[1]), int(match[2]), line)
+        if passage is None or place >= 12:
+            return place + 1
+        passages.append(passage)
+    return int(match[1]), int(match[2]), tuple(passages)
+
+
+def text_of_passage(passage):
+    """Write a passage as point 20 says."""
+    return " ".join([str(passage[0]), str(passage[1]), "".join(map(str, passage[2]))])
+
+
+def text_of_house(house):
+    """Write a house as point 20 says."""
+    return "\n".join([f"house {house[0]} {house[1]}"] + list(map(text_of_passage, house[2])))
+
+
+def spoiled_texts(chance, text, many):
+    """Return texts that differ from this one by few characters or lines."""
+    found = []
+    for _ in range(many):
+        changed = text
+        for _ in range(chance.choice((1, 1, 1, 2))):
+            place = chance.randrange(len(changed) + 1)
+            sign = chance.choice(" \n0123489-h+.\t\r")
+            kept = changed[place + chance.choice((0, 1)):]
+            changed = changed[:place] + chance.choice((sign, sign, "", "  ", "\n\n")) + kept
+        found.append(changed)
+    return found
+
+
+# The editor by hand
+
+def slide_error_by_hand(house, fixed, slide):
+    """Return (name, fields) of the error that points 8 and 18 name first, or None."""
+    index, side, older, direction = slide
+    indices = range(len(house[2]))
+    for unknown in (index, older):
+        if unknown not in indices:
+            return "UnknownPassage", {"index": unknown}
+    if older >= index:
+        return "NotOlder", {"older": older}
+    begins = way(house[2][older], direction)[0]
+    if house[2][index][SIDES.index(side)] != begins:
+        return "WrongRoom", {"room": begins}
+    if index in fixed:
+        return "PassageFixed", {"index": index}
+    return None
+
+
+class EditorByHand:
+    """Read points 18 and 19 word by word. Each operation returns ("returned", value) or ("raised", name, fields)."""
+
+    def __init__(self, house, fixed=()):
+        # Passages with their marks, so that no index has to be changed.
+        self.head = house[:2]
+        self.states = [[(passage, index in fixed) for index, passage in enumerate(house[2])]]
+        self.entries = []
+
+    def house(self):
+        return (*self.head, tuple(passage for passage, _ in self.states[-1]))
+
+    def fixed(self):
+        return tuple(index for index, (_, mark) in enumerate(self.states[-1]) if mark)
+
+    def perform(self, name, *arguments):
+        self.entries += [("begin", name), ("end", name)]
+        return getattr(self, name)(*arguments)
+
+    def done(self, rows, value=None):
+        self.states.append(rows)
+        return "returned", value
+
+    def with_passages(self, house):
+        return [(passage, mark) for passage, (_, mark) in zip(house[2], self.states[-1])]
+
+    def slide(self, *slide):
+        error = slide_error_by_hand(self.house(), self.fixed(), slide)
+        if error:
+            return "raised", *error
+        new = slid(self.house(), slide)
+        return self.done(self.with_passages(new), new[2][slide[0]][:2])
+
+    def slide_all(self, slides):
+        house = self.house()
+        for slide in slides:
+            error = slide_error_by_hand(house, self.fixed(), slide)
+            if error:
+                return "raised", *error
+            house = slid(house, slide)
+        return self.done(self.with_passages(house))
+
+    def add(self, passage, index=None):
+        rows = list(self.states[-1])
+        if len(rows) == 12:
+            return "raised", "EditorFull", {"count": 12}
+        if index is None:
+            index = len(rows)
+        if index not in range(len(rows) + 1):
+            return "raised", "InvalidIndex", {"index": index}
+        rows.insert(index, (passage, False))
+        return self.done(rows)
+
+    def remove(self, index):
+        rows = list(self.states[-1])
+        if index not in range(len(rows)):
+            return "raised", "UnknownPassage", {"index": index}
+        del rows[index]
+        return self.done(rows)
+
+    def mark(self, index, mark, error):
+        rows = list(self.states[-1])
+        if index not in range(len(rows)):
+            return "raised", "UnknownPassage", {"index": index}
+        if rows[index][1] is mark:
+            return "raised", error, {"index": index}
+        rows[index] = (rows[index][0], mark)
+        return self.done(rows)
+
+    def fix(self, index):
+        return self.mark(index, True, "PassageFixed")
+
+    def release(self, index):
+        return self.mark(index, False, "PassageNotFixed")
+
+    def undo(self):
+        if len(self.states) == 1:
+            return "returned", False
+        del self.states[-1]
+        return "returned", True
+
+
+def random_operation(chance, house, fixed):
+    """Return the name and the arguments of an operation for an editor of this house; it may fail."""
+    many = len(house[2])
+    near = lambda: chance.randrange(-1, many + 2)
+    name = chance.choice(("slide", "slide", "slide_all", "add", "remove", "fix", "release", "undo"))
+    if name == "slide":
+        possible = allowed_slides(house, fixed if chance.random() < 0.7 else ())
+        if possible and chance.random() < 0.7:
+            return name, *chance.choice(possible)
+        return name, near(), chance.choice(SIDES), near(), chance.choice(DIRECTIONS)
+    if name == "slide_all":
+        slides, _ = random_slides(chance, house, chance.randrange(5), fixed if chance.random() < 0.7 else ())
+        if chance.random() < 0.4:
+            wrong = (near(), chance.choice(SIDES), near(), chance.choice(DIRECTIONS))
+            slides.insert(chance.randrange(len(slides) + 1), wrong)
+        return name, slides
+    if name == "add":
+        passage = random_passage(chance, house[0], house[1])
+        return (name, passage) if chance.random() < 0.5 else (name, passage, chance.choice((None, near())))
+    return (name,) if name == "undo" else (name, near())

@@ -42,7 +42,7 @@ def as_passage(passage):
 def as_house(house):
     """Return a house as tuples throughout, whatever lists it is given as."""
     rooms, size, passages = house
-    return rooms, size, tuple([as_passage(passage) for passage in passages])
+    return rooms, size, tuple([(start, end, tuple(own)) for start, end, own in passages])
 
 
 def with_replaced(house, index, passage):

@@ -1,7 +1,7 @@
 """Slides: moving one end of a passage along an older passage."""
 
 from elderways.errors import NotOlder, UnknownPassage, WrongRoom
-from elderways.houses import DIRECTIONS, as_house, check_passage, crossing, exits, is_number_below, with_replaced
+from elderways.houses import DIRECTIONS, as_house, check_passage, crossing, is_number_below, with_replaced
 from elderways.permutations import compose, inverse, is_plain_int
 
 SIDES = ("end", "start")
@@ -29,13 +29,16 @@ def is_slide(house, value):
 
 def possible_slides(house):
     """Return all slides in ascending order."""
+    # For each room, the ways out of it through the passages before the one at hand. They come
+    # in ascending order, so the slides need not be sorted.
+    ways = [[] for _ in range(house[0])]
     found = []
-    for index, passage in enumerate(house[2]):
-        ways = exits(house, index)
-        for side in SIDES:
-            for (older, direction), _, _ in ways[end_room(passage, side)]:
-                found.append((index, side, older, direction))
-    return sorted(found)
+    for index, (start, end, _) in enumerate(house[2]):
+        found.extend([(index, "end", older, direction) for older, direction in ways[end]])
+        found.extend([(index, "start", older, direction) for older, direction in ways[start]])
+        ways[end].append((index, "backward"))
+        ways[start].append((index, "forward"))
+    return found
 
 
 def moved(passage, side, leads, effect):
@@ -46,26 +49,30 @@ def moved(passage, side, leads, effect):
     return start, leads, compose(permutation, effect)
 
 
-def apply_slide(house, slide):
-    """Return the house after a slide."""
+def slid(house, slide):
+    """Return a house of tuples after a slide."""
     index, side, older, direction = slide
     check_passage(house, index)
     check_passage(house, older)
     if older >= index:
         raise NotOlder(older)
-    current = as_house(house)
-    begins, leads, effect = crossing(current[2][older], direction)
-    passage = current[2][index]
+    passage = house[2][index]
+    begins, leads, effect = crossing(house[2][older], direction)
     if end_room(passage, side) != begins:
         raise WrongRoom(begins)
-    return with_replaced(current, index, moved(passage, side, leads, effect))
+    return with_replaced(house, index, moved(passage, side, leads, effect))
+
+
+def apply_slide(house, slide):
+    """Return the house after a slide."""
+    return slid(as_house(house), slide)
 
 
 def apply_slides(house, slides):
     """Return the house after a list of slides, in order."""
     current = as_house(house)
     for slide in slides:
-        current = apply_slide(current, slide)
+        current = slid(current, slide)
     return current
 
 
@@ -79,12 +86,12 @@ def reverse_slide(slide):
 
 def first_invalid(house, slides, fixed):
     """Return the place of the first slide that raises an error or moves a fixed passage, or None."""
-    current = house
+    current = as_house(house)
     for place, slide in enumerate(slides):
         if slide[0] in fixed:
             return place
         try:
-            current = apply_slide(current, slide)
+            current = slid(current, slide)
         except (UnknownPassage, NotOlder, WrongRoom):
             return place
     return None

@@ -127,6 +127,15 @@ class PossibleSlidesTest(unittest.TestCase):
         self.assertEqual(possible_slides(LOOPS), sides)
         self.assertEqual(possible_slides((1, 1, ((0, 0, (0,)), (0, 0, (0,))))), sides)
 
+    def test_eight_loops_again_and_again(self):
+        house = (1, 4, ((0, 0, (1, 2, 3, 0)),) * 8)
+        expected = sorted(itertools.product(range(8), SIDES, range(8), DIRECTIONS))
+        expected = [slide for slide in expected if slide[2] < slide[0]]
+        for form in (helpers.tupled, helpers.listed) * 30:
+            found = possible_slides(form(house))
+            self.assertEqual(found, expected)
+            found.clear()
+
     def test_order(self):
         self.assertEqual(possible_slides(YARD), [
             (1, "end", 0, "backward"),
